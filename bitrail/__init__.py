@@ -1,0 +1,1 @@
+"""Bitrail: posts on a rail, talking bit by bit."""

@@ -1,0 +1,79 @@
+"""What the tests share: calls that watch what is handed in, and numbers made by a fixed rule."""
+
+import copy
+import unittest
+
+from bitrail import errors
+
+OF_TEXT = ("NoBits", "NoName", "NoKey", "NoFrame", "NoPost", "NoThing", "NoStrip", "NoRail")
+OF_NUMBER = ("NoWire", "NoRow")
+REFUSALS = OF_TEXT + OF_NUMBER
+
+
+def some_numbers(seed, many, most_bits):
+    """Numbers of 0 to most_bits bits, the same ones for the same seed."""
+    state = seed
+    told = []
+    for _ in range(many):
+        number = 0
+        for _ in range(most_bits // 32 + 2):
+            state = (state * 6364136223846793005 + 1442695040888963407) % 2 ** 64
+            number = number << 32 | state >> 32
+        told.append(number % 2 ** ((state >> 40) % (most_bits + 1)))
+    return told
+
+
+def some_bits(seed, many):
+    number = 0
+    for part in some_numbers(seed, 2 * many // 8 + 2, 64):
+        number = number * 2 ** 17 + part
+    return [int(sign) for sign in format(number, f"0{many}b")[-many:]] if many else []
+
+
+class RailCase(unittest.TestCase):
+    def told(self, call, *handed):
+        """What the call tells; what was handed in must be as it was."""
+        before = copy.deepcopy(handed)
+        told = call(*handed)
+        self.assertEqual(handed, before)
+        return told
+
+    def assert_refused(self, name, call, *handed):
+        before = copy.deepcopy(handed)
+        with self.assertRaises(ValueError) as caught:
+            call(*handed)
+        self.assert_alone(caught.exception, name)
+        self.assertEqual(handed, before)
+
+    def assert_alone(self, error, name):
+        """The error is taken by its own name, by the base and ValueError, and by no other refusal."""
+        self.assertIsInstance(error, errors.RailError)
+        self.assertIsInstance(error, ValueError)
+        taken = [other for other in REFUSALS if isinstance(error, getattr(errors, other))]
+        self.assertEqual(taken, [name])
+
+    def assert_bits(self, told, expected):
+        self.assertIs(type(told), list)
+        self.assertEqual(told, expected)
+        self.assertTrue(all(type(bit) is int for bit in told))
+
+    def assert_number(self, told, expected):
+        self.assertIs(type(told), int)
+        self.assertEqual(told, expected)
+
+    def assert_own_list(self, call, *handed):
+        """A told list is not the one handed in, and a change of either changes nothing told later."""
+        first = self.told(call, *handed)
+        expected = copy.deepcopy(first)
+        for thing in handed:
+            self.assertIsNot(first, thing)
+        second = self.told(call, *handed)
+        self.assertIsNot(first, second)
+        first.append(7)
+        first[0] = 9
+        self.assertEqual(second, expected)
+        self.assertEqual(self.told(call, *handed), expected)
+        for thing in handed:
+            if isinstance(thing, list):
+                thing.clear()
+        self.assertEqual(second, expected)

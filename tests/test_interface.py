@@ -1,0 +1,46 @@
+"""The interface's opening: names and arguments are there as they stand."""
+
+import importlib
+import inspect
+import unittest
+
+from tests.helper import OF_NUMBER, OF_TEXT
+
+FUNCTIONS = {
+    "bitrail.bits": {
+        "bits_of": ["number", "many"],
+        "number_of": ["bits"],
+        "drawn": ["bits"],
+        "read_bits": ["text"],
+        "changed": ["bits", "places"],
+        "longest_run": ["bits"],
+    },
+    "bitrail.names": {
+        "is_name": ["number"],
+        "is_wanted": ["choice", "name"],
+        "duel": ["names"],
+    },
+    "bitrail.keys": {
+        "product": ["one", "other"],
+        "divided": ["number", "key"],
+    },
+}
+
+
+class InterfaceTest(unittest.TestCase):
+    def test_functions_and_their_arguments(self):
+        for module, functions in FUNCTIONS.items():
+            for name, arguments in functions.items():
+                function = getattr(importlib.import_module(module), name)
+                self.assertEqual(list(inspect.signature(function).parameters), arguments, name)
+
+    def test_errors(self):
+        errors = importlib.import_module("bitrail.errors")
+        for name in OF_TEXT + OF_NUMBER + ("RailError",):
+            self.assertTrue(inspect.isclass(getattr(errors, name)), name)
+        self.assertEqual(errors.NoWire(at=3).at, 3)
+        self.assertEqual(errors.NoRow(word=3).word, 3)
+
+
+if __name__ == "__main__":
+    unittest.main()
