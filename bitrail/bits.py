@@ -2,6 +2,8 @@
 
 from bitrail.errors import NoBits
 
+HIGHEST_BYTE = 255
+
 
 def bits_of(number, many):
     if number < 0 or number >> many != 0:
@@ -52,3 +54,7 @@ def longest_run(bits):
         last = bit
         longest = max(longest, run)
     return longest
+
+
+def are_bytes(numbers):
+    return all([0 <= number <= HIGHEST_BYTE for number in numbers])

@@ -24,6 +24,30 @@ FUNCTIONS = {
         "product": ["one", "other"],
         "divided": ["number", "key"],
     },
+    "bitrail.checks": {
+        "rest_of": ["bits"],
+        "check_of": ["bits"],
+        "rests_of": ["many"],
+        "is_unseen": ["places"],
+    },
+    "bitrail.putting": {
+        "put_in": ["bits"],
+        "taken_out": ["wire"],
+    },
+    "bitrail.frames": {
+        "frame_bits": ["name", "data"],
+        "read_frame": ["bits"],
+        "wire_of": ["name", "data"],
+        "read_wire": ["wire"],
+    },
+}
+
+CLASSES = {
+    "bitrail.counts": {
+        "Count": ([], {
+            "fault": ["spoke"], "blame": [], "good": [], "number": [], "is_quiet": [], "is_off": [],
+        }),
+    },
 }
 
 
@@ -33,6 +57,19 @@ class InterfaceTest(unittest.TestCase):
             for name, arguments in functions.items():
                 function = getattr(importlib.import_module(module), name)
                 self.assertEqual(list(inspect.signature(function).parameters), arguments, name)
+
+    def test_classes_and_their_methods(self):
+        for module, classes in CLASSES.items():
+            for name, (arguments, methods) in classes.items():
+                made = getattr(importlib.import_module(module), name)
+                self.assertTrue(inspect.isclass(made), name)
+                self.assertEqual(list(inspect.signature(made).parameters), arguments, name)
+                for method, handed in methods.items():
+                    found = inspect.signature(getattr(made, method)).parameters
+                    self.assertEqual(list(found)[1:], handed, f"{name}.{method}")
+
+    def test_values(self):
+        self.assertEqual(importlib.import_module("bitrail.checks").KEY, 64647)
 
     def test_errors(self):
         errors = importlib.import_module("bitrail.errors")
