@@ -30,6 +30,25 @@ def some_bits(seed, many):
     return [int(sign) for sign in format(number, f"0{many}b")[-many:]] if many else []
 
 
+# Whole numbers that are no byte and no name.
+FAR = (-1, -2, -255, -256, -(10 ** 99), 256, 257, 511, 65535, 10 ** 99)
+FRAMES = [
+    (0, []),
+    (255, []),
+    (1, [0]),
+    (128, [255]),
+    (31, [31]),
+    (0, [0] * 7),
+    (255, [255] * 7),
+    (170, [85, 170, 85]),
+    (77, [1, 2, 3, 4, 5, 6, 7]),
+    (248, [0, 255, 0, 255]),
+] + [
+    (number % 256, [one % 256 for one in some_numbers(number % 997, number // 256 % 8, 30)])
+    for number in some_numbers(18, 40, 40)
+]
+
+
 class RailCase(unittest.TestCase):
     def told(self, call, *handed):
         """What the call tells; what was handed in must be as it was."""

@@ -31,6 +31,17 @@ OUT = (
 )
 
 
+OWN_VALUES = set("count index title find get join lower upper split strip copy add".split())
+OWN_METHODS = METHODS | {"add", "discard"}
+OF_PYTHON = {name for kind in (str, int, list, dict, set, bytes, tuple) for name in dir(kind)}
+WALKED = set("zip enumerate reversed range".split())
+WALKERS = set("list tuple dict sorted sum any all enumerate zip min max join".split())
+KEYWORDS = {
+    "sorted": {"key", "reverse"}, "min": {"key", "default"}, "max": {"key", "default"}, "sum": {"start"},
+    "enumerate": {"start"}, "zip": {"strict"},
+}
+
+
 def files():
     return sorted(FOLDER.rglob("*.py"))
 
@@ -94,6 +105,108 @@ def function_faults(node):
         yield node, "a def of more than 40 lines"
 
 
+def is_plain_value(node, functions):
+    if isinstance(node, ast.UnaryOp):
+        node = node.operand
+    if isinstance(node, (ast.List, ast.Tuple)):
+        return all(is_plain_value(one, functions) for one in node.elts)
+    if isinstance(node, ast.Dict):
+        return all(is_plain_value(one, functions) for one in node.keys + node.values)
+    return isinstance(node, ast.Constant) or isinstance(node, ast.Name) and node.id in functions
+
+
+def top_faults(tree):
+    functions = set()
+    bound = []
+    for place, node in enumerate(tree.body):
+        if isinstance(node, ast.FunctionDef):
+            functions.add(node.name)
+        elif isinstance(node, ast.Assign) and not is_plain_value(node.value, functions):
+            yield node, "no plain value at the top"
+        elif isinstance(node, ast.Expr) and (place or not isinstance(node.value, ast.Constant)):
+            yield node, "something is done at the top"
+        elif not isinstance(node, (ast.ImportFrom, ast.ClassDef, ast.Assign, ast.Expr)):
+            yield node, "not for the top of a file"
+        bound += names_bound_by(node)
+        if isinstance(node, ast.Assign):
+            for inner in ast.walk(node.value):
+                if isinstance(inner, (ast.List, ast.Dict)) and inner is not node.value:
+                    yield node, "a list or dict within another"
+    if len(set(bound)) != len(bound):
+        yield tree.body[0], "a name is bound twice at the top"
+
+
+def names_bound_by(node):
+    if isinstance(node, (ast.FunctionDef, ast.ClassDef)):
+        return [node.name]
+    if isinstance(node, ast.ImportFrom):
+        return [one.name for one in node.names]
+    return [target.id for target in node.targets] if isinstance(node, ast.Assign) else []
+
+
+def local_faults(tree):
+    taken = [node.name for node in tree.body if isinstance(node, ast.ClassDef)]
+    for node in drawn_from(tree):
+        taken += [one.name for one in node.names]
+    for function in ast.walk(tree):
+        if isinstance(function, (ast.FunctionDef, ast.Lambda)):
+            for node in ast.walk(function):
+                if isinstance(node, ast.arg) and node.arg in taken:
+                    yield node, f"a parameter called like a class or an import: {node.arg}"
+                if isinstance(node, ast.Name) and isinstance(node.ctx, ast.Store) and node.id in taken:
+                    yield node, f"a local called like a class or an import: {node.id}"
+
+
+def walk_faults(tree):
+    parents = {child: node for node in ast.walk(tree) for child in ast.iter_child_nodes(node)}
+    for node in ast.walk(tree):
+        if isinstance(node, ast.Call) and called(node) in WALKED | {"items", "keys", "values"}:
+            over = parents[node]
+            if isinstance(over, (ast.For, ast.comprehension)) and over.iter is node:
+                continue
+            if not (isinstance(over, ast.Call) and called(over) in WALKERS):
+                yield node, f"not walked on the spot: {called(node)}"
+        if isinstance(node, ast.Call) and called(node) == "set":
+            over = parents[node]
+            if not (isinstance(over, (ast.Compare, ast.BinOp)) or called(over) in ("len", "sorted")):
+                yield node, "a set that is kept"
+        if isinstance(node, ast.Set):
+            yield node, "a set that is written out"
+        if isinstance(node, ast.Call) and isinstance(node.func, ast.Name) and node.func.id in BUILTINS:
+            if {one.arg for one in node.keywords} - KEYWORDS.get(node.func.id, set()):
+                yield node, "a keyword that is not used"
+
+
+def called(node):
+    if not isinstance(node, ast.Call):
+        return ""
+    return node.func.id if isinstance(node.func, ast.Name) else getattr(node.func, "attr", "")
+
+
+def text_faults(tree):
+    joined = [part for node in ast.walk(tree) if isinstance(node, ast.JoinedStr) for part in node.values]
+    for node in ast.walk(tree):
+        if isinstance(node, ast.Constant) and isinstance(node.value, str) and "%" in node.value:
+            yield node, "the sign for rests within a text"
+        if isinstance(node, ast.FormattedValue) and not isinstance(node.value, ast.Name):
+            yield node, "an f-string of another form"
+        if isinstance(node, ast.FormattedValue) and (node.format_spec or node not in joined):
+            yield node, "an f-string of another form"
+
+
+def class_names(trees):
+    """The methods and the values that the classes of the package have."""
+    methods = set()
+    values = set()
+    for tree in trees:
+        for node in ast.walk(tree):
+            if isinstance(node, ast.ClassDef):
+                methods |= {one.name for one in node.body if isinstance(one, ast.FunctionDef)}
+            if isinstance(node, ast.Attribute) and isinstance(node.ctx, ast.Store):
+                values.add(node.attr)
+    return methods, values
+
+
 def drawn_from(tree):
     return [node for node in ast.walk(tree) if isinstance(node, ast.ImportFrom)]
 
@@ -118,12 +231,21 @@ class FormTest(unittest.TestCase):
 
     def test_statements_names_and_calls(self):
         trees = {path: ast.parse(path.read_text("utf-8")) for path in files()}
-        classes = [node for tree in trees.values() for node in ast.walk(tree) if isinstance(node, ast.ClassDef)]
-        methods = {one.name for node in classes for one in node.body if isinstance(one, ast.FunctionDef)}
+        methods = class_names(trees.values())[0]
         for path, tree in trees.items():
+            self.assert_none(path, top_faults(tree))
+            self.assert_none(path, local_faults(tree))
+            self.assert_none(path, walk_faults(tree))
+            self.assert_none(path, text_faults(tree))
             self.assert_none(path, statement_faults(tree))
             self.assert_none(path, name_faults(tree))
             self.assert_none(path, call_faults(tree, methods))
+
+    def test_methods_and_values_of_classes(self):
+        methods, values = class_names([ast.parse(path.read_text("utf-8")) for path in files()])
+        self.assertEqual(methods & values, set())
+        self.assertEqual((methods - DUNDERS) & OF_PYTHON - OWN_METHODS, set())
+        self.assertEqual(values & OF_PYTHON - OWN_VALUES, set())
 
     def test_imports(self):
         sources = {}

@@ -7,24 +7,7 @@ from bitrail.checks import check_of, rest_of
 from bitrail.errors import NoFrame, NoWire, RailError
 from bitrail.frames import frame_bits, read_frame, read_wire, wire_of
 from bitrail.putting import put_in, taken_out
-from tests.helper import RailCase, some_bits, some_numbers
-
-FAR = (-1, -2, -256, -(10 ** 99), 256, 257, 511, 65535, 10 ** 99)
-FRAMES = [
-    (0, []),
-    (255, []),
-    (1, [0]),
-    (128, [255]),
-    (31, [31]),
-    (0, [0] * 7),
-    (255, [255] * 7),
-    (170, [85, 170, 85]),
-    (77, [1, 2, 3, 4, 5, 6, 7]),
-    (248, [0, 255, 0, 255]),
-] + [
-    (number % 256, [one % 256 for one in some_numbers(number % 997, number // 256 % 8, 30)])
-    for number in some_numbers(18, 40, 40)
-]
+from tests.helper import FAR, FRAMES, RailCase, some_bits, some_numbers
 
 
 def plain_bits(name, data):

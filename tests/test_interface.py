@@ -48,6 +48,17 @@ CLASSES = {
             "fault": ["spoke"], "blame": [], "good": [], "number": [], "is_quiet": [], "is_off": [],
         }),
     },
+    "bitrail.readers": {"Reader": ([], {"hear": ["bit"], "plain": [], "frame": []})},
+    "bitrail.tails": {
+        "ReadTail": (["votes"], {"says": [], "hear": ["bit"], "place": []}),
+        "SpeakTail": (["votes"], {"says": [], "hear": ["bit"], "place": []}),
+    },
+    "bitrail.posts": {
+        "Post": (["choice", "votes"], {
+            "hand": ["name", "data"], "says": [], "hear": ["bit"], "stance": [], "waits": [], "got": [],
+            "faults": [], "is_quiet": [], "is_off": [],
+        }),
+    },
 }
 
 

@@ -4,9 +4,7 @@ import copy
 import unittest
 
 from bitrail.names import duel, is_name, is_wanted
-from tests.helper import RailCase, some_numbers
-
-FAR = (-1, -2, -255, -256, -(10 ** 99), 256, 257, 511, 65535, 10 ** 99)
+from tests.helper import FAR, RailCase, some_numbers
 
 
 def plain_duel(names):
