@@ -4,6 +4,7 @@ import copy
 import unittest
 
 from bitrail import errors
+from bitrail.posts import Post
 
 OF_TEXT = ("NoBits", "NoName", "NoKey", "NoFrame", "NoPost", "NoThing", "NoStrip", "NoRail")
 OF_NUMBER = ("NoWire", "NoRow")
@@ -47,6 +48,19 @@ FRAMES = [
     (number % 256, [one % 256 for one in some_numbers(number % 997, number // 256 % 8, 30)])
     for number in some_numbers(18, 40, 40)
 ]
+
+
+def tell(post, bits):
+    """The words that the post answers to these bits."""
+    return [post.hear(bit) for bit in bits]
+
+
+def with_faults(count, choice=(0, 0), votes=3):
+    """A free post without frames whose count is this, by so many faults of one who did not speak."""
+    post = Post(choice, votes)
+    for _ in range(count):
+        tell(post, [0] * 6 + [1] * 10)
+    return post
 
 
 class RailCase(unittest.TestCase):

@@ -40,6 +40,16 @@ FUNCTIONS = {
         "wire_of": ["name", "data"],
         "read_wire": ["wire"],
     },
+    "bitrail.ears": {
+        "ear": ["wrong"],
+    },
+    "bitrail.verdicts": {
+        "verdicts": ["many", "votes", "wrong"],
+        "parting": ["many", "votes", "places", "most"],
+    },
+    "bitrail.slips": {
+        "slips": ["name", "data", "places", "most"],
+    },
 }
 
 CLASSES = {
@@ -57,6 +67,13 @@ CLASSES = {
         "Post": (["choice", "votes"], {
             "hand": ["name", "data"], "says": [], "hear": ["bit"], "stance": [], "waits": [], "got": [],
             "faults": [], "is_quiet": [], "is_off": [],
+        }),
+    },
+    "bitrail.rails": {
+        "Rail": (["choices", "votes"], {
+            "hand": ["post", "name", "data"], "turn": ["wrong_posts"], "run": ["turns", "hearing"], "turns": [],
+            "bits": [], "said": ["post"], "heard": ["post"], "events": [], "stance": ["post"], "waits": ["post"],
+            "got": ["post"], "faults": ["post"], "is_quiet": ["post"], "is_off": ["post"],
         }),
     },
 }

@@ -6,7 +6,7 @@ from bitrail.checks import check_of
 from bitrail.frames import frame_bits, wire_of
 from bitrail.posts import Post
 from bitrail.putting import put_in
-from tests.helper import FAR, FRAMES, RailCase, some_numbers
+from tests.helper import FAR, FRAMES, RailCase, some_numbers, tell, with_faults
 
 ALL = (0, 0)
 VOTES = (1, 3, 5)
@@ -16,19 +16,6 @@ NO_FRAMES = [(name, []) for name in FAR] + [(3, [byte]) for byte in FAR] + [(3, 
     (3, [0] * 100),
     (256, [0] * 8),
 ]
-
-
-def tell(post, bits):
-    """The words that the post answers to these bits."""
-    return [post.hear(bit) for bit in bits]
-
-
-def with_faults(count, choice=ALL, votes=3):
-    """A free post without frames whose count is this, by so many faults of one who did not speak."""
-    post = Post(choice, votes)
-    for _ in range(count):
-        tell(post, [0] * 6 + [1] * 10)
-    return post
 
 
 def speaking(frame, many, count=0, votes=3):
