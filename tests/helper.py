@@ -31,6 +31,10 @@ def some_bits(seed, many):
     return [int(sign) for sign in format(number, f"0{many}b")[-many:]] if many else []
 
 
+def some_thing(seed, many):
+    return [number % 256 for number in some_numbers(seed, many, 40)]
+
+
 # Whole numbers that are no byte and no name.
 FAR = (-1, -2, -255, -256, -(10 ** 99), 256, 257, 511, 65535, 10 ** 99)
 FRAMES = [

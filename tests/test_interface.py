@@ -50,6 +50,13 @@ FUNCTIONS = {
     "bitrail.slips": {
         "slips": ["name", "data", "places", "most"],
     },
+    "bitrail.things": {
+        "cut": ["tag", "thing"],
+    },
+    "bitrail.strips": {
+        "strips": ["bits", "first"],
+        "read_strips": ["some"],
+    },
 }
 
 CLASSES = {
@@ -76,6 +83,8 @@ CLASSES = {
             "got": ["post"], "faults": ["post"], "is_quiet": ["post"], "is_off": ["post"],
         }),
     },
+    "bitrail.joiners": {"Joiner": ([], {"take": ["piece"], "end": [], "is_open": []})},
+    "bitrail.desk": {"Desk": ([], {"say": ["row"]})},
 }
 
 
