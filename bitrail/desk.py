@@ -30,7 +30,6 @@ FORMS = {
 
 
 def read_row(words):
-    """The values of the words behind the first one."""
     if words[0] not in FORMS:
         raise NoRow(0)
     needed = FORMS[words[0]][0]
@@ -46,8 +45,8 @@ def read_row(words):
     return values
 
 
+# None stands for a word that is not as it ought to be, so that its place is told by the one who knows it.
 def value_of(word, kind, ahead):
-    """What the word tells, as one of this kind behind these values; None where it is not as it ought to be."""
     if kind == "":
         return None
     if kind == "choice":

@@ -31,7 +31,7 @@ def frame_bits(name, data):
 
 
 def is_complete(bits):
-    """Whether these bits of a frame, from its first one on, are as many as the bytes that it tells of ask for."""
+    # Fewer bits do not yet tell how many bytes there are.
     return len(bits) >= DATA_AT and len(bits) == DATA_AT + BYTE_BITS * told_size(bits) + CHECK_BITS
 
 

@@ -5,9 +5,8 @@ from bitrail.errors import NoWire
 MOST_ALIKE = 5
 
 
+# The alike bits at the end of a wire, kept apart since a reader, too, is told its wire bit by bit.
 class Streak:
-    """The alike bits at the end of a wire that is told bit by bit."""
-
     def __init__(self):
         self.last = None
         self.alike = 0

@@ -2,9 +2,8 @@
 
 
 def rows_of(things, most):
-    """All rows of 0 to most of the things: shorter ones first, else by the first place where they are unlike."""
     told = [[]]
-    # Each round takes up what the round before it made, every row with the place behind its last thing.
+    # Each row is kept with the place behind its last thing: made longer from there on alone, the rows come in order.
     last = [([], 0)]
     for size in range(most):
         longer = []

@@ -10,9 +10,8 @@ MOST_POSTS = 5
 FLAG_BITS = 6
 
 
+# Not a post: behind its fault it says its noughts whatever it hears, and finds no other fault.
 class Judge:
-    """A post that is in a tail: behind a fault it says its noughts, whatever it hears."""
-
     def __init__(self, tail):
         self.tail = tail
         self.verdict = "more"

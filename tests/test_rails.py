@@ -1,5 +1,6 @@
 """bitrail.rails: points 26 and 27, and over them point 2."""
 
+import copy
 import unittest
 
 from bitrail.ears import ear
@@ -289,7 +290,7 @@ class KeptTest(RailCase):
     def test_questions_tell_lists_that_are_the_askers_own(self):
         rail = three_posts()
         rail.run(200, None)
-        before = state_of(rail, 3)
+        before = copy.deepcopy(state_of(rail, 3))
         for question in ("said", "heard", "waits", "got"):
             for post in range(3):
                 getattr(rail, question)(post).append(7)
