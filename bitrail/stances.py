@@ -18,25 +18,23 @@ def begun_reader():
     return reader
 
 
+def unless_off(post, word, stance):
+    return ("off", Off()) if post.is_off() else (word, stance)
+
+
 def fault_of(post, spoke):
     post.tally.fault(spoke)
-    if post.is_off():
-        return ("off", Off())
-    return ("fault", Flagging(FLAG_BITS, not spoke))
+    return unless_off(post, "fault", Flagging(FLAG_BITS, not spoke))
 
 
 def refusal_of(post, spoke):
     post.tally.fault(spoke)
-    if post.is_off():
-        return ("off", Off())
-    return ("refuses", Settles(False))
+    return unless_off(post, "refuses", Settles(False))
 
 
 def blame_of(post):
     post.tally.blame()
-    if post.is_off():
-        return ("off", Off())
-    return ("", Settles(False))
+    return unless_off(post, "", Settles(False))
 
 
 class Free:
@@ -84,7 +82,7 @@ class Speaks:
         if bit != own:
             return fault_of(post, True)
         if self.many + 1 == len(self.wire):
-            return ("", SpokenTail(SpeakTail(post.votes)))
+            return ("", InTail(SpeakTail(post.votes), None))
         return ("", Speaks(self.wire, self.reader, self.many + 1))
 
 
@@ -104,40 +102,17 @@ class Reads:
         if answer == "more":
             return ("", Reads(self.reader, self.many + 1))
         if answer == "whole":
-            return ("", HeardTail(ReadTail(post.votes), self.reader.frame()))
+            return ("", InTail(ReadTail(post.votes), self.reader.frame()))
         return fault_of(post, False)
 
 
-class SpokenTail:
-    def __init__(self, tail):
-        self.tail = tail
-
-    def shown(self):
-        return ("tail speaks", self.tail.place())
-
-    def says(self, post):
-        return self.tail.says()
-
-    def step(self, bit, post):
-        answer = self.tail.hear(bit)
-        if answer == "more":
-            return ("", self)
-        if answer == "fault":
-            return fault_of(post, True)
-        if answer == "refused":
-            return refusal_of(post, True)
-        post.drop_foremost()
-        post.tally.good()
-        return ("done", Rests(REST_TURNS))
-
-
-class HeardTail:
+class InTail:
     def __init__(self, tail, found):
         self.tail = tail
         self.found = found
 
     def shown(self):
-        return ("tail reads", self.tail.place())
+        return ("tail speaks" if self.tail.spoke else "tail reads", self.tail.place())
 
     def says(self, post):
         return self.tail.says()
@@ -147,11 +122,14 @@ class HeardTail:
         if answer == "more":
             return ("", self)
         if answer == "fault":
-            return fault_of(post, False)
+            return fault_of(post, self.tail.spoke)
         if answer == "refused":
-            return refusal_of(post, False)
-        post.hand_up(self.found)
+            return refusal_of(post, self.tail.spoke)
         post.tally.good()
+        if self.tail.spoke:
+            post.drop_foremost()
+            return ("done", Rests(REST_TURNS))
+        post.hand_up(self.found)
         return ("takes", Rests(REST_TURNS))
 
 
